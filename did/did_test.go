@@ -18,6 +18,7 @@ func TestP10_1ParseDID(t *testing.T) {
 		"did:x:%c3%a4%25%2f":              {Method: "x", ID: "%C3%A4%25%2F"},
 		"did:x:a%3a":                      {Method: "x", ID: "a%3A"},
 		"did:did:did":                     {Method: "did", ID: "did"},
+		"did:az09:azAZ09":                 {Method: "az09", ID: "azAZ09"},
 	} {
 		if got, err := ParseDID(s); got != want || err != api.OK {
 			t.Errorf("ParseDID(%q) = %+v, %d", s, got, err)
@@ -61,8 +62,12 @@ func TestP10_2Parse(t *testing.T) {
 			t.Errorf("Parse(%q) = %+v, %d", rest, got, err)
 		}
 	}
+	longest := "did:x:a#" + strings.Repeat("y", api.MaxText-8)
+	if u, err := Parse(longest); Format(u) != longest || err != api.OK {
+		t.Errorf("at the limit: %d", err)
+	}
 	for s, want := range map[string]api.Errno{
-		"did:x:a#" + strings.Repeat("y", api.MaxText): api.ErrLimit, strings.Repeat("#", api.MaxText+1): api.ErrLimit,
+		longest + "y": api.ErrLimit, "did:x:a#" + strings.Repeat("y", api.MaxText): api.ErrLimit, strings.Repeat("#", api.MaxText+1): api.ErrLimit,
 		"": api.ErrScheme, "#k": api.ErrScheme, "/did:x:y": api.ErrScheme, "did:x": api.ErrForm, "did:x?a:b": api.ErrForm, "did:X:a/%": api.ErrMethod, "did:x:%/": api.ErrPercent, "did:x:~/": api.ErrChar, "did:x:/a": api.ErrEmpty, "did:x:a:#k": api.ErrEmpty,
 		"did:x:a/%": api.ErrPercent, "did:x:a/ ?%": api.ErrChar, "did:x:a/?%# ": api.ErrPercent, "did:x:a? #%": api.ErrChar, "did:x:a#%": api.ErrPercent, "did:x:a#b#c": api.ErrChar, "did:x:a/ä": api.ErrChar, "did:x:a/[": api.ErrChar,
 	} {

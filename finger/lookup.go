@@ -54,10 +54,8 @@ func (k lookup) byQuery() outcome {
 }
 
 func (k lookup) byHostMeta() outcome {
-	u, err := HostMeta(k.id)
-	if err != api.OK {
-		return failed(nil, err)
-	}
+	// The identifier has a query, so it is valid and has this URL, too.
+	u, _ := HostMeta(k.id)
 	r, err := fetch.Run(k.answers, k.now, u)
 	if err != api.OK {
 		return failed(r.Trace, err)
@@ -77,10 +75,8 @@ func (k lookup) byHostMeta() outcome {
 }
 
 func (k lookup) byHome() outcome {
-	u, err := Home(k.id)
-	if err != api.OK {
-		return failed(nil, err)
-	}
+	// The identifier has a query, so it is valid and has this URL, too.
+	u, _ := Home(k.id)
 	r, err := fetch.Run(k.answers, k.now, u)
 	if err != api.OK {
 		return failed(r.Trace, err)
@@ -127,14 +123,9 @@ func (k lookup) expand(j api.JRD) (api.URL, api.Errno) {
 
 // linked returns the URL to which the Link header of a response leads.
 func linked(r api.Response) (api.URL, bool) {
-	value, ok := head.Get(r.Head, "link")
-	if !ok {
-		return api.URL{}, false
-	}
-	links, err := weblink.Parse(value)
-	if err != api.OK {
-		return api.URL{}, false
-	}
+	// Without the field, or with a wrong one, there are no links.
+	value, _ := head.Get(r.Head, "link")
+	links, _ := weblink.Parse(value)
 	target, ok := weblink.Find(links, relation)
 	if !ok {
 		return api.URL{}, false

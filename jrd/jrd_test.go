@@ -106,14 +106,15 @@ func TestP16_2Encode(t *testing.T) {
 }
 
 func TestP16_3Find(t *testing.T) {
-	j := api.JRD{Links: []api.Link{{Rel: "a", Href: "1"}, {Rel: "b", Titles: []api.Property{{Name: "t"}}}, {Rel: "a", Href: "2"}, {Rel: "A"}, {Rel: ""}}}
+	j := api.JRD{Links: []api.Link{{Rel: "a", Href: "1"}, {Rel: "b", Titles: []api.Property{{Name: "t"}}, Properties: []api.Property{{Name: "p"}}}, {Rel: "a", Href: "2"}, {Rel: "A"}, {Rel: ""}}}
 	for rel, want := range map[string][]api.Link{"a": {{Rel: "a", Href: "1"}, {Rel: "a", Href: "2"}}, "b": {j.Links[1]}, "c": nil, "": {{}}} {
 		if got := Find(j, rel); !reflect.DeepEqual(got, want) {
 			t.Errorf("Find(%q) = %+v", rel, got)
 		}
 	}
-	Find(j, "b")[0].Titles[0].Name = "changed"
-	if j.Links[1].Titles[0].Name != "t" {
+	found := Find(j, "b")[0]
+	found.Titles[0].Name, found.Properties[0].Name = "changed", "changed"
+	if j.Links[1].Titles[0].Name != "t" || j.Links[1].Properties[0].Name != "p" {
 		t.Error("Find shares memory with its argument")
 	}
 }

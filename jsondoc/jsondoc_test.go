@@ -53,7 +53,7 @@ func checkWrong(t *testing.T, cases []wrongText) {
 func TestP14_1ParseErrors(t *testing.T) {
 	checkWrong(t, []wrongText{
 		{"", 0, api.ErrSyntax}, {" ", 1, api.ErrSyntax}, {"1 2", 2, api.ErrSyntax}, {"[1,]", 3, api.ErrSyntax}, {"[,1]", 1, api.ErrSyntax}, {"[1 2]", 3, api.ErrSyntax}, {"[1", 2, api.ErrSyntax}, {"[", 1, api.ErrSyntax}, {"]", 0, api.ErrSyntax}, {"[}", 1, api.ErrSyntax}, {"[1}", 2, api.ErrSyntax}, {"[1:2]", 2, api.ErrSyntax}, {"[]]", 2, api.ErrSyntax}, {"01", 1, api.ErrSyntax},
-		{"{", 1, api.ErrSyntax}, {"{]", 1, api.ErrSyntax}, {"{1:2}", 1, api.ErrSyntax}, {`{"a"}`, 4, api.ErrSyntax}, {`{"a" 1}`, 5, api.ErrSyntax}, {`{"a":}`, 5, api.ErrSyntax}, {`{"a":1,}`, 7, api.ErrSyntax}, {`{"a":1 "b":2}`, 7, api.ErrSyntax}, {`{"a":1]`, 6, api.ErrSyntax}, {`{,}`, 1, api.ErrSyntax}, {`{"a":1,2`, 7, api.ErrSyntax}, {`{"a":1`, 6, api.ErrSyntax}, {`{"a":`, 5, api.ErrSyntax}, {`{"a"`, 4, api.ErrSyntax}, {`{true:1}`, 1, api.ErrSyntax}, {":", 0, api.ErrSyntax}, {",", 0, api.ErrSyntax}, {`"a":1`, 3, api.ErrSyntax}, {`{"a",1}`, 4, api.ErrSyntax},
+		{"{", 1, api.ErrSyntax}, {"{]", 1, api.ErrSyntax}, {"{1:2}", 1, api.ErrSyntax}, {`{"a"}`, 4, api.ErrSyntax}, {`{"a" 1}`, 5, api.ErrSyntax}, {`{"a":}`, 5, api.ErrSyntax}, {`{"a":1,}`, 7, api.ErrSyntax}, {`{"a":1 "b":2}`, 7, api.ErrSyntax}, {`{"a":1]`, 6, api.ErrSyntax}, {`{,}`, 1, api.ErrSyntax}, {`{"a":1,2`, 7, api.ErrSyntax}, {`{"a":1`, 6, api.ErrSyntax}, {`{"a":`, 5, api.ErrSyntax}, {`{"a"`, 4, api.ErrSyntax}, {`{true:1}`, 1, api.ErrSyntax}, {`["]"`, 4, api.ErrSyntax}, {`[1"]"`, 2, api.ErrSyntax}, {`{"a"":"1}`, 4, api.ErrSyntax}, {`[1","2]`, 2, api.ErrSyntax}, {`{"}"`, 4, api.ErrSyntax}, {":", 0, api.ErrSyntax}, {",", 0, api.ErrSyntax}, {`"a":1`, 3, api.ErrSyntax}, {`{"a",1}`, 4, api.ErrSyntax},
 		{"?", 0, api.ErrToken}, {"  ?", 0, api.ErrToken}, {"[1,  ?]", 3, api.ErrToken}, {"[  tru]", 1, api.ErrToken}, {"[1] x", 3, api.ErrToken}, {`{"a": "\x"}`, 5, api.ErrToken}, {"[\"\xff\"]", 1, api.ErrUTF8}, {"1.", 1, api.ErrToken}, {"[1,\"", 3, api.ErrToken}, {"\xef\xbb\xbf1", 0, api.ErrToken},
 		{`{"a":1,"a":2}`, 7, api.ErrDuplicate}, {`{"a":1, "\u0061" 2}`, 8, api.ErrDuplicate}, {`{"":1,"":`, 6, api.ErrDuplicate}, {`[{"a":1},{"a":1,"a"`, 16, api.ErrDuplicate},
 		{"[ 1e401]", 2, api.ErrNumber}, {`{"a":` + strings.Repeat("1", 41) + "}", 5, api.ErrNumber}, {`1e401x`, 0, api.ErrNumber}, {`[1 1e401`, 3, api.ErrSyntax},
@@ -112,9 +112,10 @@ func TestP14_2Get(t *testing.T) {
 			t.Errorf("Get(%q) = %+v, %v", c.key, got, ok)
 		}
 	}
-	got, _ := Get(v, "b")
-	got.Items[0].Text = "changed"
-	if v.Items[1].Items[0].Text != "x" {
+	deep := obj([]string{"o"}, obj([]string{"k"}, arr(arr(str("x")))))
+	got, _ := Get(deep, "o")
+	got.Keys[0], got.Items[0].Items[0].Items[0].Text = "changed", "changed"
+	if deep.Items[0].Keys[0] != "k" || deep.Items[0].Items[0].Items[0].Items[0].Text != "x" {
 		t.Error("Get shares memory with its argument")
 	}
 }
@@ -137,7 +138,7 @@ func TestP14_3Equal(t *testing.T) {
 			t.Errorf("Equal(%s, %s) is false", a, b)
 		}
 	}
-	for _, v := range []api.Value{{}, {Kind: 8}, {Kind: -1}, arr(api.Value{}), obj([]string{"a"}), obj([]string{"a"}, api.Value{})} {
+	for _, v := range []api.Value{{}, {Kind: 8}, {Kind: -1}, arr(api.Value{}), obj([]string{"a"}), obj([]string{"a", "b"}, null), obj([]string{"a"}, api.Value{})} {
 		if Equal(v, v) {
 			t.Errorf("Equal of %+v with itself", v)
 		}

@@ -54,6 +54,13 @@ func TestP15_1Valid(t *testing.T) {
 			t.Errorf("%.60v is valid inside another value", v)
 		}
 	}
+	objects := null
+	for range 64 {
+		objects = obj([]string{"a"}, objects)
+	}
+	if !Valid(objects) || Valid(arr(objects)) || Valid(obj([]string{"a"}, objects)) {
+		t.Error("Valid of nested objects")
+	}
 	if !Valid(arr(nested(63))) || Valid(obj([]string{"a"}, nested(64))) {
 		t.Error("Valid at the greatest depth")
 	}

@@ -97,10 +97,8 @@ func readAnswer(text string) (api.Answer, bool) {
 
 // unquote returns the string of a text that is one JSON string in canonical form.
 func unquote(s string) (string, bool) {
-	t, _, err := token.Next(s, 0)
-	if err != api.OK || t.Kind != api.TokenString {
-		return "", false
-	}
+	// If there is another token, or an error, s is not the quoted form of its text.
+	t, _, _ := token.Next(s, 0)
 	quoted, err := token.Quote(t.Text)
 	return t.Text, err == api.OK && quoted == s
 }

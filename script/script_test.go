@@ -113,6 +113,9 @@ func TestP34_2FormatErrors(t *testing.T) {
 			t.Errorf("Format with %d bytes = %.40q, %d", len(raw), got, err)
 		}
 	}
+	if _, err := Format(api.Script{Answers: slices.Repeat(full.Answers[:1], api.MaxAnswers), Ops: slices.Repeat(full.Ops[:1], api.MaxOps)}); err != api.OK {
+		t.Errorf("Format of the greatest numbers = %d", err)
+	}
 	for size, want := range map[int]api.Errno{api.MaxScript - 20: api.OK, api.MaxScript - 19: api.ErrTooLarge} {
 		got, err := Format(api.Script{Ops: []api.Op{{Kind: api.OpResolve, Text: strings.Repeat("x", size)}}})
 		if err != want || want == api.OK && len(got) != api.MaxScript {

@@ -70,11 +70,8 @@ func (w *writer) answer(a api.Answer) {
 	if w.isOver = w.isOver || len(a.Raw) > api.MaxScript; w.isOver {
 		return
 	}
-	quoted, err := token.Quote(a.Raw)
-	if err != api.OK {
-		w.isOver = true
-		return
-	}
+	// Raw is UTF-8 and short enough, so there is no error.
+	quoted, _ := token.Quote(a.Raw)
 	origin := host.Format(api.HostPort{Host: a.Host, Port: a.Port})
 	w.line(answerWord, origin, number.Format(a.From), number.Format(a.Until), strconv.Itoa(a.Fail), a.Target, quoted)
 }

@@ -64,7 +64,7 @@ func TestP13_1NextStrings(t *testing.T) {
 	}
 	for s, want := range map[string]api.Errno{
 		`"`: api.ErrToken, `"abc`: api.ErrToken, `"\`: api.ErrToken, `"\"`: api.ErrToken, `"\x"`: api.ErrToken, `"\u"`: api.ErrToken, `"\u12"`: api.ErrToken, `"\u123`: api.ErrToken, `"\u123g"`: api.ErrToken, `"\u+123"`: api.ErrToken, `"\U0041"`: api.ErrToken, `"\a"`: api.ErrToken, `"\'"`: api.ErrToken, "\"\n\"": api.ErrToken, "\"\x1f\"": api.ErrToken, "\"\x00\"": api.ErrToken, "\"\\\n\"": api.ErrToken,
-		`"\ud800"`: api.ErrUTF8, `"\udc00"`: api.ErrUTF8, `"\udfff\ud800"`: api.ErrUTF8, `"\ud800\ud800\udc00"`: api.ErrUTF8, `"\ud800\u0041"`: api.ErrUTF8, `"\ud800x"`: api.ErrUTF8, `"\ud800`: api.ErrUTF8, `"\ud800\uzzzz"`: api.ErrUTF8, `"\ud800\n"`: api.ErrUTF8, `"\udbff\ue000"`: api.ErrUTF8, `"\ud800\"`: api.ErrUTF8,
+		`"\ud800"`: api.ErrUTF8, `"\udc00"`: api.ErrUTF8, `"\udfff\ud800"`: api.ErrUTF8, `"\ud800\ud800\udc00"`: api.ErrUTF8, `"\ud800\u0041"`: api.ErrUTF8, `"\ud800x"`: api.ErrUTF8, `"\ud800`: api.ErrUTF8, `"\ud800\uzzzz"`: api.ErrUTF8, `"\ud800\n"`: api.ErrUTF8, `"\udbff\ue000"`: api.ErrUTF8, `"\ud800\ue000"`: api.ErrUTF8, `"\ud800xudc00"`: api.ErrUTF8, `"\ud800\ndc00"`: api.ErrUTF8, `"\ue000\udc00"`: api.ErrUTF8, `"\x0041"`: api.ErrToken, `"\ud800\"`: api.ErrUTF8,
 		"\"\xff\"": api.ErrUTF8, "\"\xc3\"": api.ErrUTF8, "\"\xe2\x82": api.ErrUTF8, "\"\xc0\x80\"": api.ErrUTF8, "\"\xed\xa0\x80\"": api.ErrUTF8,
 		"\"\xff\n\"": api.ErrUTF8, "\"\n\xff\"": api.ErrToken, `"\x\ud800"`: api.ErrToken, "\"\\\xff\"": api.ErrToken,
 	} {
@@ -93,7 +93,7 @@ func TestP13_1StringsAgreeWithGo(t *testing.T) {
 
 func TestP13_2Quote(t *testing.T) {
 	for s, want := range map[string]string{
-		"": `""`, "a/b'": `"a/b'"`, "\"\\": `"\"\\"`, "\b\f\n\r\t": `"\b\f\n\r\t"`, "\x00\x01\x0b\x1f": `"\u0000\u0001\u000b\u001f"`, "ä😀\x7f\u2028<>&": "\"ä😀\x7f\u2028<>&\"",
+		"": `""`, " a/b '": `" a/b '"`, "\"\\": `"\"\\"`, "\b\f\n\r\t": `"\b\f\n\r\t"`, "\x00\x01\x0b\x1f": `"\u0000\u0001\u000b\u001f"`, "ä😀\x7f\u2028<>&": "\"ä😀\x7f\u2028<>&\"",
 	} {
 		if got, err := Quote(s); got != want || err != api.OK {
 			t.Errorf("Quote(%q) = %q, %d", s, got, err)

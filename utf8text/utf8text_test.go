@@ -49,6 +49,20 @@ func TestP2_1DecodeErrors(t *testing.T) {
 	}
 }
 
+func TestP2_1DecodeOfEveryPairOfBytes(t *testing.T) {
+	for i := range 1 << 16 {
+		s := string([]byte{byte(i >> 8), byte(i)})
+		want, size := utf8.DecodeRuneInString(s)
+		r, to, err := Decode(s, 0)
+		if want == utf8.RuneError {
+			want, size = 0, 0
+		}
+		if r != int(want) || to != size || (err == api.OK) != (size > 0) {
+			t.Errorf("Decode(%q) = %x, %d, %d", s, r, to, err)
+		}
+	}
+}
+
 func TestP2_1DecodeAgreesWithGo(t *testing.T) {
 	for s := range sample.Texts(4, "\x00", "\x7f", "\x80", "\x8f", "\x90", "\x9f", "\xa0", "\xbf", "\xc1", "\xc2", "\xdf", "\xe0", "\xed", "\xef", "\xf0", "\xf4", "\xf5", "\xff") {
 		if s == "" {

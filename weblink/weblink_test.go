@@ -36,7 +36,7 @@ func TestP22_1ParseErrors(t *testing.T) {
 		t.Errorf("MaxLinks links: %d, %d", len(got), err)
 	}
 	for s, want := range map[string]api.Errno{
-		"a": api.ErrForm, "<": api.ErrForm, "<a": api.ErrForm, "<a\n>": api.ErrForm, "<\x7f>": api.ErrForm, "<\x00>": api.ErrForm, "<a> <b>": api.ErrForm, "<a><b>": api.ErrForm, "<a>x": api.ErrForm, "<a>;": api.ErrForm, "<a>; ": api.ErrForm, "<a>;;x": api.ErrForm, "<a>;,<b>": api.ErrForm, "<a>;=x": api.ErrForm, "<a>;x=": api.ErrForm, "<a>;x= ": api.ErrForm, "<a>;x=,<b>": api.ErrForm, "<a>;x=y z": api.ErrForm, "<a>;x y": api.ErrForm, `<a>;x="`: api.ErrForm, `<a>;x="y`: api.ErrForm, `<a>;x="y"z`: api.ErrForm, "<a>;x=\"\n\"": api.ErrForm, `<a>;"x"=y`: api.ErrForm, "<a>;ä=y": api.ErrForm, "<a>;x==y": api.ErrForm, "<a>\n": api.ErrForm, ";<a>": api.ErrForm, "=": api.ErrForm,
+		"a": api.ErrForm, "<": api.ErrForm, "<a": api.ErrForm, "<a\n>": api.ErrForm, "<\x7f>": api.ErrForm, "<\x00>": api.ErrForm, "<a> <b>": api.ErrForm, "<a><b>": api.ErrForm, "<a>x": api.ErrForm, "<a>;": api.ErrForm, "<a>; ": api.ErrForm, "<a>;;x": api.ErrForm, "<a>;,<b>": api.ErrForm, "<a>;=x": api.ErrForm, "<a>;x=": api.ErrForm, "<a>;x= ": api.ErrForm, "<a>;x=,<b>": api.ErrForm, "<a>;x=y z": api.ErrForm, "<a>;x y": api.ErrForm, `<a>;x="`: api.ErrForm, `<a>;x="y`: api.ErrForm, `<a>;x="y"z`: api.ErrForm, "<a>;x=\"\n\"": api.ErrForm, `<a>;"x"=y`: api.ErrForm, "<a>;ä=y": api.ErrForm, "<a>;x==y": api.ErrForm, "<a>\n": api.ErrForm, ";<a>": api.ErrForm, ",<a": api.ErrForm, " ,<a>,<b>;": api.ErrForm, "=": api.ErrForm,
 		full + "<": api.ErrTooMany, full + "<a>": api.ErrTooMany, full + ", <\n": api.ErrTooMany, full + "x<a>": api.ErrForm, full + ";": api.ErrForm, "?" + full + "<": api.ErrForm,
 	} {
 		if got, err := Parse(s); got != nil || err != want {

@@ -81,14 +81,9 @@ func authorities(ids []api.ID) []api.HostPort {
 
 // linked returns the URL to which the Link header of a response leads.
 func linked(r api.Response) (api.URL, bool) {
-	value, ok := head.Get(r.Head, "link")
-	if !ok {
-		return api.URL{}, false
-	}
-	links, err := weblink.Parse(value)
-	if err != api.OK {
-		return api.URL{}, false
-	}
+	// Without the field, or with a wrong one, there are no links.
+	value, _ := head.Get(r.Head, "link")
+	links, _ := weblink.Parse(value)
 	target, ok := weblink.Find(links, relation)
 	if !ok {
 		return api.URL{}, false
@@ -99,24 +94,13 @@ func linked(r api.Response) (api.URL, bool) {
 
 // names returns the identifiers that a response names if it is a document about an identifier.
 func names(r api.Response, id api.ID) []api.ID {
+	// What is read with an error is empty, so it has no names.
 	if id.Kind != api.KindDID {
-		f, err := finger.Read(r, id)
-		if err != api.OK {
-			return nil
-		}
+		f, _ := finger.Read(r, id)
 		return f.Names
 	}
-	d, err := did.ParseDID(id.Text)
-	if err != api.OK {
-		return nil
-	}
-	v, err := didfetch.Read(r, d)
-	if err != api.OK {
-		return nil
-	}
-	doc, err := diddoc.Decode(v)
-	if err != api.OK {
-		return nil
-	}
+	d, _ := did.ParseDID(id.Text)
+	v, _ := didfetch.Read(r, d)
+	doc, _ := diddoc.Decode(v)
 	return didfetch.Names(doc, id)
 }

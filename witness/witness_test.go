@@ -106,7 +106,7 @@ func TestP33_2Delegates(t *testing.T) {
 			}
 			got = append(got, text)
 		}
-		if strings.Join(got, " ") != want {
+		if strings.Join(got, " ") != want || (want == "") != (got == nil) {
 			t.Errorf("Delegates of %.200q = %q", raw, got)
 		}
 	}
@@ -247,6 +247,34 @@ func TestP33_4ProvesWantsTheOrder(t *testing.T) {
 		v.Trace = slices.Repeat([]api.Exchange{both}, count)
 		if err := Proves(l, 0, v); err != want {
 			t.Errorf("Proves with a document about both %d times = %d", count, err)
+		}
+	}
+}
+
+func TestP33_4ProvesTrueFailures(t *testing.T) {
+	const at = "https://a.example/x"
+	for raw, want := range map[string]api.Exchange{
+		"HTTP/1.1 200":         {Err: api.ErrTruncated},
+		"HTTP/1.1 2 -\r\n\r\n": {Err: api.ErrHead},
+		"HTTP/1.1 200 -\r\nContent-Length: 1\r\n\r\n":                 {Status: 200, Err: api.ErrTruncated},
+		"HTTP/1.1 302 -\r\nContent-Length: 1\r\n\r\n":                 {Status: 302},
+		"HTTP/1.1 404 -\r\n\r\n" + strings.Repeat("x", api.MaxBody):   {Status: 404},
+		"HTTP/1.1 404 -\r\n\r\n" + strings.Repeat("x", api.MaxBody+1): {Status: 404, Err: api.ErrTooLarge},
+	} {
+		l := append(site(t), page(t, at, raw))
+		v := accepted(t, l, bob)
+		for status := range 600 {
+			for _, err := range []api.Errno{api.OK, want.Err, api.ErrConnect} {
+				if status%100 > 4 {
+					continue
+				}
+				w := v
+				w.Trace = append(slices.Clone(v.Trace), exchange(t, at, status))
+				w.Trace[3].Err = err
+				if isTrue := status == want.Status && err == want.Err; (Proves(l, 0, w) == api.OK) != isTrue {
+					t.Errorf("%.60q with the status %d and the error %d: %d", raw, status, err, Proves(l, 0, w))
+				}
+			}
 		}
 	}
 }
