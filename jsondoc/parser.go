@@ -9,14 +9,14 @@ import (
 type state int
 
 const (
-	value        state = iota // a value
-	valueOrClose              // the first item of an array, or its end
-	key                       // a key
-	keyOrClose                // the first key of an object, or its end
-	colon                     // the colon after a key
-	commaOrClose              // what follows an item
-	end                       // the end of the text
-	finished                  // nothing
+	wantValue        state = iota // a value
+	wantValueOrClose              // the first item of an array, or its end
+	wantKey                       // a key
+	wantKeyOrClose                // the first key of an object, or its end
+	wantColon                     // the colon after a key
+	wantCommaOrClose              // what follows an item
+	wantEnd                       // the end of the text
+	finished                      // nothing
 )
 
 // container is an array or object whose end has not come yet.
@@ -35,27 +35,27 @@ type parser struct {
 
 func (p *parser) take(t api.Token) api.Errno {
 	switch p.state {
-	case value:
+	case wantValue:
 		return p.begin(t)
-	case valueOrClose, keyOrClose:
+	case wantValueOrClose, wantKeyOrClose:
 		if p.isClose(t) {
 			p.close()
 			return api.OK
 		}
-		if p.state == keyOrClose {
+		if p.state == wantKeyOrClose {
 			return p.addKey(t)
 		}
 		return p.begin(t)
-	case key:
+	case wantKey:
 		return p.addKey(t)
-	case colon:
+	case wantColon:
 		if isPunct(t, ":") {
-			p.state = value
+			p.state = wantValue
 			return api.OK
 		}
-	case commaOrClose:
+	case wantCommaOrClose:
 		return p.goOn(t)
-	case end:
+	case wantEnd:
 		if t.Kind == api.TokenEnd {
 			p.state = finished
 			return api.OK
@@ -97,10 +97,10 @@ func (p *parser) begin(t api.Token) api.Errno {
 // open puts an array or object without items on the stack.
 func (p *parser) open(v api.Value) {
 	c := container{value: v}
-	p.state = valueOrClose
+	p.state = wantValueOrClose
 	if v.Kind == api.JSONObject {
 		c.keys = map[string]bool{}
-		p.state = keyOrClose
+		p.state = wantKeyOrClose
 	}
 	p.stack = append(p.stack, c)
 }
@@ -108,12 +108,12 @@ func (p *parser) open(v api.Value) {
 // add puts a whole value where it belongs.
 func (p *parser) add(v api.Value) {
 	if len(p.stack) == 0 {
-		p.root, p.state = v, end
+		p.root, p.state = v, wantEnd
 		return
 	}
 	top := p.top()
 	top.value.Items = append(top.value.Items, v)
-	p.state = commaOrClose
+	p.state = wantCommaOrClose
 }
 
 // close takes the innermost array or object from the stack.
@@ -131,9 +131,9 @@ func (p *parser) goOn(t api.Token) api.Errno {
 	case !isPunct(t, ","):
 		return api.ErrSyntax
 	case p.top().value.Kind == api.JSONObject:
-		p.state = key
+		p.state = wantKey
 	default:
-		p.state = value
+		p.state = wantValue
 	}
 	return api.OK
 }
@@ -148,11 +148,11 @@ func (p *parser) addKey(t api.Token) api.Errno {
 	}
 	top.keys[t.Text] = true
 	top.value.Keys = append(top.value.Keys, t.Text)
-	p.state = colon
+	p.state = wantColon
 	return api.OK
 }
 
-// top returns the innermost array or object; there is one in all states but value and end.
+// top returns the innermost array or object; there is one whenever a key, a colon, a comma or an end of one is wanted.
 func (p *parser) top() *container { return &p.stack[len(p.stack)-1] }
 
 // isClose reports whether a token ends the innermost array or object.
